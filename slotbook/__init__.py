@@ -1,0 +1,1 @@
+"""Slotbook: tables of slots, probes and entries."""

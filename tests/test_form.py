@@ -1,0 +1,92 @@
+"""The part of Python that the package keeps to: those of its rules (L1 to L28) that are soon looked up."""
+
+import ast
+import builtins
+import pathlib
+import re
+import unittest
+
+PACKAGE = pathlib.Path(__file__).resolve().parent.parent / "slotbook"
+
+ALLOWED = set(
+    "len range enumerate zip min max sum abs sorted reversed int str bool list tuple dict set frozenset isinstance ord "
+    "repr any all divmod Exception ValueError KeyError IndexError LookupError ZeroDivisionError ArithmeticError "
+    "OverflowError RuntimeError NotImplementedError StopIteration TypeError AttributeError object".split()
+)
+BARRED_NODES = (
+    ast.Import, ast.With, ast.Match, ast.Delete, ast.Global, ast.Nonlocal, ast.Assert, ast.Yield, ast.YieldFrom,
+    ast.Await, ast.AsyncFunctionDef, ast.AsyncFor, ast.AsyncWith, ast.SetComp, ast.DictComp, ast.GeneratorExp,
+    ast.NamedExpr, ast.Starred, ast.Div, ast.MatMult,
+)
+BARRED_WORDS = re.compile(
+    r"\b(type|typing|typing_extensions|enum|Enum|IntEnum|StrEnum|Flag|IntFlag|Generic|Protocol|ABC|ABCMeta|namedtuple"
+    r"|NamedTuple|TypedDict|TYPE_CHECKING|abstractmethod)\b|dataclass|overload|contextmanager"
+)
+
+
+def texts():
+    """The text of each file of the package, by its name."""
+    return {path.name: path.read_text(encoding="utf-8") for path in sorted(PACKAGE.glob("*.py"))}
+
+
+def nodes():
+    """Each node of each file, with the file's name and the line."""
+    for name, text in texts().items():
+        for node in ast.walk(ast.parse(text)):
+            yield f"{name}:{getattr(node, 'lineno', 0)}", node
+
+
+class TestForm(unittest.TestCase):
+    def test_only_python_files_lie_in_the_package(self):
+        found = [path.name for path in PACKAGE.iterdir() if path.name != "__pycache__"]
+        self.assertEqual(sorted(found), sorted(texts()))
+        self.assertIn("__init__.py", found)
+
+    def test_lines_and_signs(self):
+        for name, text in texts().items():
+            lines = text.split("\n")
+            self.assertLessEqual(len(lines), 401, name)
+            for number, line in enumerate(lines, start=1):
+                self.assertTrue(len(line) <= 120 and all(" " <= sign <= "~" for sign in line), f"{name}:{number}")
+
+    def test_barred_words(self):
+        for name, text in texts().items():
+            self.assertIsNone(BARRED_WORDS.search(text), name)
+
+    def test_functions_are_short_and_plain(self):
+        for where, node in nodes():
+            if isinstance(node, (ast.FunctionDef, ast.ClassDef)):
+                self.assertEqual(node.decorator_list, [], where)
+            if isinstance(node, ast.FunctionDef):
+                self.assertLessEqual(node.end_lineno - node.lineno + 1, 40, where)
+                given = node.args
+                self.assertFalse(given.vararg or given.kwarg or given.kwonlyargs or given.posonlyargs, where)
+
+    def test_imports_are_the_packages_own(self):
+        for where, node in nodes():
+            if isinstance(node, ast.ImportFrom):
+                self.assertTrue(node.level == 0 and node.module.startswith("slotbook."), where)
+                self.assertTrue(all(alias.name != "*" for alias in node.names), where)
+
+    def test_barred_statements_and_expressions(self):
+        for where, node in nodes():
+            self.assertNotIsInstance(node, BARRED_NODES, where)
+            if isinstance(node, ast.Constant):
+                self.assertNotIsInstance(node.value, (float, complex, bytes), where)
+                self.assertFalse(isinstance(node.value, str) and "%" in node.value, where)
+            if isinstance(node, (ast.For, ast.While)):
+                self.assertEqual(node.orelse, [], where)
+            if isinstance(node, ast.Try):
+                self.assertEqual(node.finalbody, [], where)
+
+    def test_names(self):
+        for where, node in nodes():
+            if isinstance(node, ast.Name):
+                self.assertTrue(node.id in ALLOWED or not hasattr(builtins, node.id), f"{where} {node.id}")
+                self.assertFalse(node.id.startswith("_") and node.id not in ("__all__", "__version__"), where)
+            if isinstance(node, ast.arg):
+                self.assertFalse(hasattr(builtins, node.arg) or node.arg.startswith("_"), where)
+
+
+if __name__ == "__main__":
+    unittest.main()
