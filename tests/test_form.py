@@ -87,6 +87,39 @@ class TestForm(unittest.TestCase):
             if isinstance(node, ast.arg):
                 self.assertFalse(hasattr(builtins, node.arg) or node.arg.startswith("_"), where)
 
+    def test_no_parameter_or_local_is_called_like_an_import_or_a_class(self):
+        for name, text in texts().items():
+            tree = ast.parse(text)
+            taken = [node.name for node in tree.body if isinstance(node, ast.ClassDef)]
+            taken += [alias.name for node in tree.body if isinstance(node, ast.ImportFrom) for alias in node.names]
+            for node in ast.walk(tree):
+                if isinstance(node, ast.arg):
+                    self.assertNotIn(node.arg, taken, f"{name}:{node.lineno}")
+                if isinstance(node, ast.Name) and isinstance(node.ctx, ast.Store):
+                    self.assertNotIn(node.id, taken, f"{name}:{node.lineno}")
+
+    def test_imports_come_from_the_file_that_defines_the_name(self):
+        for where, node in nodes():
+            if isinstance(node, ast.ImportFrom):
+                tree = ast.parse(texts()[node.module.removeprefix("slotbook.") + ".py"])
+                defined = [part.name for part in tree.body if isinstance(part, (ast.FunctionDef, ast.ClassDef))]
+                defined += [part.targets[0].id for part in tree.body if isinstance(part, ast.Assign)]
+                for alias in node.names:
+                    self.assertIn(alias.name, defined, where)
+
+    def test_no_two_files_draw_from_one_another(self):
+        drawn = {
+            name.removesuffix(".py"): [
+                node.module.removeprefix("slotbook.")
+                for node in ast.walk(ast.parse(text)) if isinstance(node, ast.ImportFrom)
+            ]
+            for name, text in texts().items()
+        }
+        while drawn:
+            free = [name for name in drawn if not any(other in drawn for other in drawn[name])]
+            self.assertNotEqual(free, [], f"a ring among {sorted(drawn)}")
+            drawn = {name: drawn[name] for name in drawn if name not in free}
+
 
 if __name__ == "__main__":
     unittest.main()

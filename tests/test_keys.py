@@ -3,21 +3,11 @@
 import copy
 import unittest
 
+from helper import Unhelpful
 from slotbook.errors import NoKey
 from slotbook.keys import checked, is_key
 
 BOUND = 10 ** 60
-
-
-class Unhelpful:
-    """A thing that can be neither compared, counted, written out nor asked whether it is true."""
-
-    __hash__ = None
-
-    def refuse(self, *others):
-        raise RuntimeError("not to be asked")
-
-    __eq__ = __lt__ = __gt__ = __len__ = __bool__ = __iter__ = __repr__ = __str__ = refuse
 
 
 def nested(inner, levels):
