@@ -23,6 +23,11 @@ BARRED_WORDS = re.compile(
     r"|NamedTuple|TypedDict|TYPE_CHECKING|abstractmethod)\b|dataclass|overload|contextmanager"
 )
 
+# What Python's own values have as a method or a value may be the name of an object's value in these cases alone.
+OF_PYTHONS_VALUES = {name for kind in (str, int, list, tuple, dict, set, bytes) for name in dir(kind)}
+VALUE_NAMES = set("count index title find get join lower upper split strip copy add".split())
+BARRED_NAMES = set("register mro elements open input version_info with_traceback add_note format format_map".split())
+
 
 def texts():
     """The text of each file of the package, by its name."""
@@ -106,6 +111,60 @@ class TestForm(unittest.TestCase):
                 defined += [part.targets[0].id for part in tree.body if isinstance(part, ast.Assign)]
                 for alias in node.names:
                     self.assertIn(alias.name, defined, where)
+
+    def test_classes_hold_methods_alone(self):
+        for where, node in nodes():
+            if isinstance(node, ast.ClassDef):
+                self.assertTrue(len(node.bases) <= 1 and not node.keywords, where)
+                for part in node.body:
+                    remark = isinstance(part, ast.Expr) and isinstance(part.value, ast.Constant)
+                    self.assertTrue(remark or isinstance(part, ast.FunctionDef), where)
+                methods = [part.name for part in node.body if isinstance(part, ast.FunctionDef)]
+                self.assertEqual(sorted(methods), sorted(set(methods)), where)
+                self.assertEqual([name for name in methods if name.startswith("_") and name != "__init__"], [], where)
+
+    def test_classes_are_called_or_stand_beside_a_refusal(self):
+        classes = [node.name for where, node in nodes() if isinstance(node, ast.ClassDef)]
+        for name, text in texts().items():
+            tree, free = ast.parse(text), []
+            for node in ast.walk(tree):
+                if isinstance(node, ast.Call) and isinstance(node.func, ast.Name):
+                    free.append(node.func)
+                    if node.func.id == "isinstance":
+                        free.extend(node.args[1:])
+                elif isinstance(node, ast.ClassDef):
+                    free.extend(node.bases)
+                elif isinstance(node, ast.ExceptHandler):
+                    free.append(node.type)
+                elif isinstance(node, ast.Attribute) and node.attr == "__init__":
+                    free.append(node.value)
+            for node in ast.walk(tree):
+                if isinstance(node, ast.Name) and node.id in classes:
+                    self.assertTrue(any(node is other for other in free), f"{name}:{node.lineno}")
+
+    def test_no_name_is_a_method_in_one_class_and_a_value_in_another(self):
+        methods, values = set(), set()
+        for where, node in nodes():
+            if isinstance(node, ast.ClassDef):
+                methods.update(part.name for part in node.body if isinstance(part, ast.FunctionDef))
+            if isinstance(node, ast.Attribute) and isinstance(node.ctx, ast.Store):
+                self.assertIsInstance(node.value, ast.Name, where)
+                self.assertNotIn(node.attr, OF_PYTHONS_VALUES - VALUE_NAMES, where)
+                values.add(node.attr)
+        self.assertEqual(methods & values, set())
+        self.assertEqual((methods | values) & BARRED_NAMES, set())
+
+    def test_is_stands_beside_none_true_and_false_alone(self):
+        for where, node in nodes():
+            if isinstance(node, ast.Compare):
+                for sign, side in zip(node.ops, node.comparators):
+                    if isinstance(sign, (ast.Is, ast.IsNot)):
+                        self.assertTrue(isinstance(side, ast.Constant) and side.value in (None, True, False), where)
+
+    def test_assignments_have_one_target(self):
+        for where, node in nodes():
+            if isinstance(node, ast.Assign):
+                self.assertEqual(len(node.targets), 1, where)
 
     def test_no_two_files_draw_from_one_another(self):
         drawn = {

@@ -3,65 +3,12 @@
 import copy
 import unittest
 
-from helper import Unhelpful
+from helper import (
+    DEEP_TUPLES, GOOD, LONG_TUPLES, NOT_GOOD_ANYWHERE, NUMBERS, OTHERS, TEXTS, TUPLES, WRONG_NUMBERS, WRONG_TEXTS,
+    all_wrong, nested, tuples_with,
+)
 from slotbook.errors import NoKey
 from slotbook.keys import checked, is_key
-
-BOUND = 10 ** 60
-
-
-def nested(inner, levels):
-    """The inner thing, with so many tuples around it."""
-    for level in range(levels):
-        inner = (inner,)
-    return inner
-
-
-NUMBERS = [0, 1, -1, 2, -2, 7, 2147483647, -2147483648, 2 ** 64, BOUND - 2, BOUND - 1, 2 - BOUND, 1 - BOUND]
-WRONG_NUMBERS = [BOUND, BOUND + 1, -BOUND, -BOUND - 1, 10 ** 61, -10 ** 61, 10 ** 5000, -10 ** 5000]
-TEXTS = ["", " ", "a", "~", "0", "none", '"', "\\", "x" * 59, "x" * 60]
-WRONG_TEXTS = ["x" * 61, "x" * 62, "x" * 5000]
-TUPLES = [
-    (), (0,), ("",), (1, "a"), (1, 1), (1, 2, 3, 4, 5, 6), ("a",) * 6, (BOUND - 1, 1 - BOUND, "x" * 60),
-    ((),), ((1,),), (1, (2,)), ((1,), 2), ((), ()), ((1, 2, 3, 4, 5, 6),) * 6,
-    (((),),), (((1,),),), (1, (2, (3,))), (((1,), 2), 3), ("a", ("b", ("c", "d"))), (1, (), (2, ("c",), ())),
-    (((1, 2, 3, 4, 5, 6),) * 6,) * 6,
-]
-LONG_TUPLES = [(1,) * 7, ("a",) * 7, ((),) * 7, tuple(range(8)), (0,) * 5000]
-DEEP_TUPLES = [
-    ((((),),),), ((((1,),),),), (1, (2, (3, (4,)))), (1, 2, 3, 4, 5, (1, 2, 3, 4, 5, (1, 2, 3, 4, 5, ()))),
-    ((((), 1), 1), 1), ((), ((), ((), ()))), nested((), 4), nested((), 49),
-]
-OTHERS = [
-    True, False, None, [], [1], {}, {1: 2}, set(), {1}, frozenset(), frozenset({1}), 0.0, 1.0, float("nan"),
-    float("inf"), 1j, b"", b"a", bytearray(b"a"), range(3), object(), int, str, tuple, len, is_key, Unhelpful(),
-]
-
-GOOD = NUMBERS + TEXTS + TUPLES
-NOT_GOOD_ANYWHERE = OTHERS + WRONG_NUMBERS + WRONG_TEXTS + LONG_TUPLES
-
-
-def tuples_with(thing):
-    """Tuples, short and shallow enough, in which the thing stands at each place and each depth."""
-    found = []
-    for many in range(1, 7):
-        for place in range(many):
-            row = (1,) * place + (thing,) + ("a",) * (many - place - 1)
-            found.append(row)
-            found.append((row,))
-            found.append((0, row, "b"))
-            found.append((((),), (0, row), ()))
-    for levels in range(1, 4):
-        for place in range(6):
-            found.append((1, (2,), "c", (), 5)[:place] + (nested(thing, levels - 1),))
-    return found
-
-
-def all_wrong():
-    found = NOT_GOOD_ANYWHERE + DEEP_TUPLES
-    for thing in NOT_GOOD_ANYWHERE:
-        found = found + tuples_with(thing)
-    return found
 
 
 class TestIsKey(unittest.TestCase):

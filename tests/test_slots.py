@@ -3,7 +3,7 @@
 import copy
 import unittest
 
-from helper import LIKE_STAMPS, NO_SIZES, ROOMS, ROWS, SIZES, all_states, probes_by_steps
+from helper import LIKE_STAMPS, NO_SIZES, ROOMS, ROWS, SIZES, all_states, cells_by_point, paper_by_point
 from slotbook.errors import BookError, Full, NoSize
 from slotbook.slots import EMPTY, GONE, cells_of, paper, place_of
 from slotbook.stamps import TURN, stamp
@@ -57,23 +57,6 @@ PAPERS = [
 ]
 
 ABSENT = [0, 1, 5, 8, 64, 99, TURN, -1, 10 ** 59, "", "a", "zz", (), (0,), ((0,),), (1, "a", (2, ()))]
-
-
-def paper_by_point(cells, row, key):
-    """A key's paper by another way: all its probes, cut behind the first that ends it."""
-    pairs = [(slot, cells[slot]) for slot in probes_by_steps(stamp(key), len(cells))]
-    own = row.index(key) if key in row else None
-    ends = [number for number, (slot, cell) in enumerate(pairs) if cell == EMPTY or cell == own]
-    return pairs[:ends[0] + 1]
-
-
-def cells_by_point(row, size):
-    cells = [EMPTY] * size
-    for place in range(len(row)):
-        if row[place] is not None:
-            free = [slot for slot in probes_by_steps(stamp(row[place]), size) if cells[slot] == EMPTY]
-            cells[free[0]] = place
-    return cells
 
 
 def asked_keys(row):
